@@ -1,0 +1,1 @@
+"""Loopgyre: floors full of ways, and the turns that carry their links round."""
