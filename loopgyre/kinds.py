@@ -1,4 +1,4 @@
-"""What several modules ask of a thing: whether it is a whole number, a size."""
+"""What several modules ask of a thing: whether it is a whole number, a size, a list of lists of numbers."""
 
 from loopgyre.errors import NoSize
 
@@ -17,3 +17,22 @@ def is_size(thing):
 def need_size(n):
     if not is_size(n):
         raise NoSize("a size is a whole number from 1 to 12")
+
+
+def is_number_row(thing, length):
+    return isinstance(thing, list) and len(thing) == length and all([is_whole(part) for part in thing])
+
+
+def is_number_grid(thing, rows, columns):
+    if not isinstance(thing, list) or len(thing) != rows:
+        return False
+    return all([is_number_row(row, columns) for row in thing])
+
+
+def are_among(row, numbers):
+    return all([number in numbers for number in row])
+
+
+def is_grid_of(thing, rows, columns, numbers):
+    # The kinds come first: a truth counts as equal to a number, but is none.
+    return is_number_grid(thing, rows, columns) and all([are_among(row, numbers) for row in thing])

@@ -1,20 +1,12 @@
 """Tables of signs: what a state is, and the first fault of another thing."""
 
-from loopgyre.kinds import is_size, is_whole
-
-
-def is_sign(thing):
-    return is_whole(thing) and -1 <= thing <= 1
-
-
-def is_row(thing, n):
-    return isinstance(thing, list) and len(thing) == n and all([is_sign(sign) for sign in thing])
+from loopgyre.kinds import is_grid_of, is_size
 
 
 def is_table(thing):
     if not isinstance(thing, list) or not is_size(len(thing)):
         return False
-    return all([is_row(row, len(thing)) for row in thing])
+    return is_grid_of(thing, len(thing), len(thing), (1, 0, -1))
 
 
 def is_off(total, at_end):
@@ -42,3 +34,14 @@ def is_state(thing):
 
 def signs_fault(thing):
     return table_fault(thing) if is_table(thing) else None
+
+
+def column_sums(state):
+    # At [i][c] the sum of column c in the rows below i: what heights, arrows
+    # and triangles are all told by.
+    sums = [0] * len(state)
+    told = [sums]
+    for row in state:
+        sums = [total + sign for total, sign in zip(sums, row)]
+        told.append(sums)
+    return told

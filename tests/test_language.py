@@ -7,7 +7,7 @@ import re
 import unittest
 
 PACKAGE = pathlib.Path(__file__).resolve().parent.parent / "loopgyre"
-MODULES = ("__init__", "errors", "floors", "signs")
+MODULES = ("__init__", "errors", "floors", "signs", "heights", "arrows", "sides", "triangles")
 
 NODES = (
     "Module FunctionDef ClassDef arguments arg Return Assign AugAssign AnnAssign For While If Raise Try "
@@ -29,6 +29,15 @@ OWN_METHODS = (
     "setdefault split splitlines startswith strip update upper values zfill bit_length"
 ).split()
 
+KEYWORDS = {
+    "sorted": ("key", "reverse"), "min": ("key", "default"), "max": ("key", "default"),
+    "sum": ("start",), "enumerate": ("start",), "zip": ("strict",),
+}
+
+# Where a walk may stand that is not kept (L23).
+WALKED_BY = ("list", "tuple", "dict", "sorted", "sum", "any", "all", "enumerate", "zip", "min", "max")
+WALKS = ("zip", "enumerate", "reversed", "range", "items", "keys", "values")
+
 FREE_METHODS = ("__init__", "__eq__", "__repr__", "__str__", "__len__")
 
 NOWHERE = (
@@ -43,6 +52,13 @@ WORDS = re.compile(
 )
 
 PYTHONS_OWN = {name for kind in (str, int, list, tuple, dict, set, bytes) for name in dir(kind)}
+
+
+def called(node):
+    """The name of what a call calls, None of another thing."""
+    if not isinstance(node, ast.Call):
+        return None
+    return node.func.id if isinstance(node.func, ast.Name) else getattr(node.func, "attr", None)
 
 
 def files():
@@ -70,6 +86,10 @@ def top_names(tree):
         elif isinstance(node, ast.ImportFrom):
             told += [name.asname or name.name for name in node.names]
     return told
+
+
+def top_names_of(node):
+    return top_names(ast.Module([node], []))
 
 
 def bound_names(tree):
@@ -126,7 +146,7 @@ class Imports(unittest.TestCase):
                 self.assertIn(node.module, told)
                 defined = [
                     name for part in told[node.module].body if not isinstance(part, ast.ImportFrom)
-                    for name in top_names(ast.Module([part], []))
+                    for name in top_names_of(part)
                 ]
                 for name in node.names:
                     self.assertIn(name.name, defined)
@@ -177,6 +197,25 @@ class Forms(unittest.TestCase):
             self.assertEqual(len(node.generators), 1, stem)
             self.assertLessEqual(len(node.generators[0].ifs), 1, stem)
 
+    def test_walked_at_once(self):
+        for stem, tree in trees():
+            free = []
+            for node in ast.walk(tree):
+                if isinstance(node, (ast.For, ast.comprehension)):
+                    free.append(id(node.iter))
+                elif called(node) in WALKED_BY or called(node) == "join":
+                    free += [id(part) for part in node.args]
+            for node in ast.walk(tree):
+                if called(node) in WALKS:
+                    self.assertIn(id(node), free, (stem, node.lineno))
+
+    def test_only_modules_have_docstrings(self):
+        for stem, node in nodes(ast.Expr):
+            if isinstance(node.value, ast.Constant):
+                self.assertEqual(node.lineno, 1, stem)
+            else:
+                self.assertIsInstance(node.value, ast.Call, stem)
+
     def test_is_beside_none_and_truths_alone(self):
         for stem, node in nodes(ast.Compare):
             if any(isinstance(sign, (ast.Is, ast.IsNot)) for sign in node.ops):
@@ -211,6 +250,23 @@ class Names(unittest.TestCase):
                 if name not in FREE_METHODS:
                     self.assertRegex(name, r"^[A-Za-z][A-Za-z0-9_]*$", stem)
                     self.assertNotIn(name, dir(builtins), stem)
+
+    def test_no_local_is_called_like_a_class_or_an_import(self):
+        for stem, tree in trees():
+            taken = {name for node in tree.body if isinstance(node, ast.ImportFrom) for name in top_names_of(node)}
+            taken |= {node.name for node in tree.body if isinstance(node, ast.ClassDef)}
+            for node in tree.body:
+                if isinstance(node, (ast.FunctionDef, ast.ClassDef)):
+                    self.assertFalse(taken & bound_names(ast.Module(node.body, [])), (stem, node.name))
+                    if isinstance(node, ast.FunctionDef):
+                        self.assertFalse(taken & {part.arg for part in node.args.args}, (stem, node.name))
+
+    def test_keywords(self):
+        for stem, node in nodes(ast.Call):
+            if node.keywords and isinstance(node.func, ast.Name):
+                free = KEYWORDS.get(node.func.id, ())
+                if node.func.id in OWN_NAMES:
+                    self.assertTrue({word.arg for word in node.keywords} <= set(free), (stem, node.lineno))
 
     def test_methods(self):
         for stem, node in nodes(ast.Attribute):

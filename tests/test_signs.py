@@ -1,54 +1,9 @@
 import copy
 import itertools
-import random
 import unittest
 
 from loopgyre.signs import is_state, signs_fault
-
-SIZES = range(1, 13)
-
-
-def diagonal(n):
-    return [[1 if c == r else 0 for c in range(n)] for r in range(n)]
-
-
-def flipped(table):
-    return [row[::-1] for row in table]
-
-
-def diamond(n):
-    """1 and -1 by turns in a diamond; one row and column more where n is even."""
-    half = (n - 1) // 2
-    odd = 2 * half + 1
-    table = [[0] * n for row in range(n)]
-    for r in range(odd):
-        reach = min(r, odd - 1 - r)
-        for step in range(2 * reach + 1):
-            table[r][half - reach + step] = 1 if step % 2 == 0 else -1
-    if odd < n:
-        table[n - 1][n - 1] = 1
-    return table
-
-
-def wander(n, chance, steps):
-    """A state that lies some steps of heights away from the diagonal."""
-    heights = [[abs(i - j) for j in range(n + 1)] for i in range(n + 1)]
-    for step in range(steps if n > 1 else 0):
-        i, j = chance.randint(1, n - 1), chance.randint(1, n - 1)
-        around = {heights[i - 1][j], heights[i + 1][j], heights[i][j - 1], heights[i][j + 1]}
-        if len(around) == 1:
-            heights[i][j] = 2 * around.pop() - heights[i][j]
-    return [[sign_between(heights, r, c) for c in range(n)] for r in range(n)]
-
-
-def sign_between(heights, r, c):
-    return (heights[r][c + 1] + heights[r + 1][c] - heights[r][c] - heights[r + 1][c + 1]) // 2
-
-
-def by_turns(line):
-    """Whether the numbers other than 0 are 1 and -1 by turns, first and last 1."""
-    told = [sign for sign in line if sign != 0]
-    return len(told) % 2 == 1 and told == [1 if k % 2 == 0 else -1 for k in range(len(told))]
+from samples import SIZES, by_turns, diagonal, some_states
 
 
 def by_definition(table):
@@ -70,12 +25,6 @@ def fault_by_definition(table):
 def all_tables(n):
     for signs in itertools.product((-1, 0, 1), repeat=n * n):
         yield [list(signs[r * n:r * n + n]) for r in range(n)]
-
-
-def some_states(n):
-    chance = random.Random(n)
-    told = [diagonal(n), flipped(diagonal(n)), diamond(n), flipped(diamond(n))]
-    return told + [wander(n, chance, 40 * n * n) for turn in range(20)]
 
 
 class Case(unittest.TestCase):
