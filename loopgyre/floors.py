@@ -8,8 +8,7 @@ def is_place(n, r, c):
     return 0 <= r < n and 0 <= c < n
 
 
-def road_of(n, r, c, side):
-    need_size(n)
+def road_over(n, r, c, side):
     # A place that the floor has not lies in line with roads, but has none.
     if not is_place(n, r, c):
         return None
@@ -24,10 +23,17 @@ def road_of(n, r, c, side):
     return None
 
 
-def place_of(n, road):
+def road_of(n, r, c, side):
     need_size(n)
-    if not (is_whole(road) and 0 <= road < 4 * n):
+    return road_over(n, r, c, side)
+
+
+def need_road(road, roads):
+    if not (is_whole(road) and 0 <= road < roads):
         raise NoRoad("the floor has not this road")
+
+
+def place_at(n, road):
     stretch = road // n
     t = road % n
     if stretch == 0:
@@ -37,6 +43,16 @@ def place_of(n, road):
     if stretch == 2:
         return (n - 1, n - 1 - t, "D")
     return (n - 1 - t, 0, "L")
+
+
+def place_of(n, road):
+    need_size(n)
+    need_road(road, 4 * n)
+    return place_at(n, road)
+
+
+def is_square(n, i, j):
+    return is_whole(i) and is_whole(j) and 0 < i < n and 0 < j < n
 
 
 def shade_of(i, j):

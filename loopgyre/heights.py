@@ -56,10 +56,14 @@ def signs_of_row(table, r):
     return [sign_amid(table, r, c) for c in range(len(table) - 1)]
 
 
+def signs_of_heights(table):
+    return [signs_of_row(table, r) for r in range(len(table) - 1)]
+
+
 def state_of_heights(thing):
     if not is_height_table(thing):
         raise NoState(None)
     spot = first_faulty_point(thing)
     if spot is not None:
         raise NoState(spot)
-    return [signs_of_row(thing, r) for r in range(len(thing) - 1)]
+    return signs_of_heights(thing)

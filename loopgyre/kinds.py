@@ -1,6 +1,6 @@
-"""What several modules ask of a thing: whether it is a whole number, a size, a list of lists of numbers."""
+"""What several modules ask of things: whether one is a number, a size, a grid, or two states are of one size."""
 
-from loopgyre.errors import NoSize
+from loopgyre.errors import NoSize, Unlike
 
 GREATEST_SIZE = 12
 
@@ -17,6 +17,11 @@ def is_size(thing):
 def need_size(n):
     if not is_size(n):
         raise NoSize("a size is a whole number from 1 to 12")
+
+
+def need_alike(one, other):
+    if len(one) != len(other):
+        raise Unlike("the two states are of unlike sizes")
 
 
 def is_number_row(thing, length):

@@ -1,11 +1,12 @@
 """What several tests share: states found without the program, things that are no form, and how a form is asked."""
 
 import copy
+import inspect
 import itertools
 import random
 import unittest
 
-from loopgyre.errors import NoState
+from loopgyre.errors import NoState, Unlike
 
 SIZES = range(1, 13)
 
@@ -40,11 +41,37 @@ def wander(n, chance, steps):
         around = {heights[i - 1][j], heights[i + 1][j], heights[i][j - 1], heights[i][j + 1]}
         if len(around) == 1:
             heights[i][j] = 2 * around.pop() - heights[i][j]
-    return [[sign_between(heights, r, c) for c in range(n)] for r in range(n)]
+    return signs_between(heights)
 
 
 def sign_between(heights, r, c):
     return (heights[r][c + 1] + heights[r + 1][c] - heights[r][c] - heights[r + 1][c + 1]) // 2
+
+
+def signs_between(heights):
+    n = len(heights) - 1
+    return [[sign_between(heights, r, c) for c in range(n)] for r in range(n)]
+
+
+def heights_by_definition(state):
+    n = len(state)
+    return [[i + j - 2 * sum(sum(row[:j]) for row in state[:i]) for j in range(n + 1)] for i in range(n + 1)]
+
+
+def sides_by_definition(state):
+    """Told by the sums of signs: an arrow is 1 across where the sum is 0, down where it is 1."""
+    n = len(state)
+    across = [[int((sum(row[:j]) == 0) == ((r + j) % 2 == 1)) for j in range(n + 1)] for r, row in enumerate(state)]
+    down = [
+        [int((sum(row[c] for row in state[:i]) == 1) == ((i + c) % 2 == 1)) for c in range(n)]
+        for i in range(n + 1)
+    ]
+    return (across, down)
+
+
+def walked_at(pair, r, c):
+    across, down = pair
+    return {"L": across[r][c], "R": across[r][c + 1], "U": down[r][c], "D": down[r + 1][c]}
 
 
 def some_states(n):
@@ -90,6 +117,42 @@ def spoil(thing):
     for part in reversed(lists_within(thing)):
         part.reverse()
         part.append("spoilt")
+
+
+class AskCase(unittest.TestCase):
+    """Asks what takes states and numbers, and looks at what becomes of them and of what is told."""
+
+    def expect_own(self, ask, *things):
+        kept = copy.deepcopy(things)
+        told = ask(*things)
+        form = repr(told)
+        self.assertEqual(things, kept)
+        own = [id(part) for part in lists_within(told)]
+        self.assertEqual(len(own), len(set(own)))
+        self.assertFalse(set(own) & {id(part) for part in lists_within(things)})
+        spoil(told)
+        self.assertEqual(things, kept)
+        again = ask(*things)
+        self.assertEqual(repr(again), form)
+        spoil(things)
+        self.assertEqual(repr(again), form)
+        self.assertEqual(repr(ask(*kept)), form)
+
+    def expect_refusal(self, refusal, ask, *things):
+        before = repr(things)
+        with self.assertRaises(refusal, msg=before[:300]) as caught:
+            ask(*things)
+        self.assertIs(type(caught.exception), refusal)
+        self.assertEqual(repr(things), before)
+
+    def expect_unlike(self, ask):
+        """That two states of any unlike sizes are refused, either way round."""
+        for n, m in itertools.permutations(SIZES, 2):
+            self.expect_refusal(Unlike, ask, diagonal(n), diagonal(m))
+            self.expect_refusal(Unlike, ask, flipped(diagonal(n)), diamond(m))
+
+    def expect_arguments(self, ask, told):
+        self.assertEqual(str(inspect.signature(ask)), told)
 
 
 class FormCase(unittest.TestCase):

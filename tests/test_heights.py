@@ -3,12 +3,9 @@ import itertools
 import random
 
 from loopgyre.heights import heights_of, state_of_heights
-from samples import NO_LISTS, NO_NUMBERS, SIZES, FormCase, all_states, deep_list, diagonal, flipped, some_states
-
-
-def heights_by_definition(state):
-    n = len(state)
-    return [[i + j - 2 * sum(sum(row[:j]) for row in state[:i]) for j in range(n + 1)] for i in range(n + 1)]
+from samples import (
+    NO_LISTS, NO_NUMBERS, SIZES, FormCase, all_states, deep_list, diagonal, flipped, heights_by_definition, some_states,
+)
 
 
 def rim_by_definition(n):

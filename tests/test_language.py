@@ -7,7 +7,7 @@ import re
 import unittest
 
 PACKAGE = pathlib.Path(__file__).resolve().parent.parent / "loopgyre"
-MODULES = ("__init__", "errors", "floors", "signs", "heights", "arrows", "sides", "triangles")
+MODULES = ("__init__", "errors", "floors", "signs", "heights", "arrows", "sides", "triangles", "turns", "lattice", "links")
 
 NODES = (
     "Module FunctionDef ClassDef arguments arg Return Assign AugAssign AnnAssign For While If Raise Try "
@@ -81,7 +81,7 @@ def top_names(tree):
     for node in tree.body:
         if isinstance(node, (ast.FunctionDef, ast.ClassDef)):
             told.append(node.name)
-        elif isinstance(node, ast.Assign):
+        elif isinstance(node, ast.Assign) and isinstance(node.targets[0], ast.Name):
             told.append(node.targets[0].id)
         elif isinstance(node, ast.ImportFrom):
             told += [name.asname or name.name for name in node.names]
@@ -167,6 +167,15 @@ class Forms(unittest.TestCase):
                 self.assertIsInstance(node, (ast.ImportFrom, ast.FunctionDef, ast.ClassDef, ast.Assign), stem)
             names = top_names(tree)
             self.assertEqual(len(names), len(set(names)), stem)
+
+    def test_plain_values_at_the_top(self):
+        for stem, tree in trees():
+            for node in tree.body:
+                if isinstance(node, ast.Assign):
+                    self.assertIsInstance(node.targets[0], ast.Name, stem)
+                    parts = list(ast.walk(node.value))
+                    self.assertFalse([part for part in parts if isinstance(part, (ast.Call, ast.BinOp))], stem)
+                    self.assertFalse([part for part in parts[1:] if isinstance(part, (ast.List, ast.Dict))], stem)
 
     def test_statements_and_expressions(self):
         for stem, node in nodes(ast.AST):

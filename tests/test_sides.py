@@ -1,22 +1,6 @@
 from loopgyre.floors import road_of
 from loopgyre.sides import sides_of, state_of_sides
-from samples import SIZES, FormCase, PairTests, diagonal, some_states
-
-
-def sides_by_definition(state):
-    """Told by the sums of signs: an arrow is 1 across where the sum is 0, down where it is 1."""
-    n = len(state)
-    across = [[int((sum(row[:j]) == 0) == ((r + j) % 2 == 1)) for j in range(n + 1)] for r, row in enumerate(state)]
-    down = [
-        [int((sum(row[c] for row in state[:i]) == 1) == ((i + c) % 2 == 1)) for c in range(n)]
-        for i in range(n + 1)
-    ]
-    return (across, down)
-
-
-def walked_at(pair, r, c):
-    across, down = pair
-    return {"L": across[r][c], "R": across[r][c + 1], "U": down[r][c], "D": down[r + 1][c]}
+from samples import SIZES, FormCase, PairTests, diagonal, sides_by_definition, some_states, walked_at
 
 
 def fault_by_definition(pair):
