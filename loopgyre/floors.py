@@ -59,11 +59,15 @@ def shade_of(i, j):
     return "light" if (i + j) % 2 == 0 else "dark"
 
 
-def squares(n, shade):
-    need_size(n)
+def squares_within(n, shade):
     points = []
     for i in range(1, n):
         for j in range(1, n):
             if shade_of(i, j) == shade:
                 points.append((i, j))
     return points
+
+
+def squares(n, shade):
+    need_size(n)
+    return squares_within(n, shade)

@@ -10,13 +10,21 @@ def is_whole(thing):
     return isinstance(thing, int) and not isinstance(thing, bool)
 
 
+def is_size_to(thing, most):
+    return is_whole(thing) and 1 <= thing <= most
+
+
 def is_size(thing):
-    return is_whole(thing) and 1 <= thing <= GREATEST_SIZE
+    return is_size_to(thing, GREATEST_SIZE)
+
+
+def need_size_to(n, most):
+    if not is_size_to(n, most):
+        raise NoSize(f"the size is to be a whole number from 1 to {most}")
 
 
 def need_size(n):
-    if not is_size(n):
-        raise NoSize("a size is a whole number from 1 to 12")
+    need_size_to(n, GREATEST_SIZE)
 
 
 def need_alike(one, other):
@@ -26,6 +34,10 @@ def need_alike(one, other):
 
 def is_number_row(thing, length):
     return isinstance(thing, list) and len(thing) == length and all([is_whole(part) for part in thing])
+
+
+def is_row_below(thing, length, bound):
+    return is_number_row(thing, length) and all([0 <= number < bound for number in thing])
 
 
 def is_number_grid(thing, rows, columns):

@@ -45,3 +45,7 @@ def column_sums(state):
         sums = [total + sign for total, sign in zip(sums, row)]
         told.append(sums)
     return told
+
+
+def column_of(state, c):
+    return [row[c] for row in state]

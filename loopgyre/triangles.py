@@ -1,7 +1,7 @@
 """Triangles: a state told by the columns that are filled behind each row."""
 
 from loopgyre.errors import NoState
-from loopgyre.kinds import is_number_row, is_size
+from loopgyre.kinds import is_row_below, is_size
 from loopgyre.signs import column_sums
 
 
@@ -13,14 +13,10 @@ def triangle_of(state):
     return [filled_columns(sums) for sums in column_sums(state)[1:]]
 
 
-def is_column_row(thing, length, n):
-    return is_number_row(thing, length) and all([0 <= column < n for column in thing])
-
-
 def is_column_triangle(thing):
     if not isinstance(thing, list) or not is_size(len(thing)):
         return False
-    return all([is_column_row(row, k, len(thing)) for k, row in enumerate(thing, start=1)])
+    return all([is_row_below(row, k, len(thing)) for k, row in enumerate(thing, start=1)])
 
 
 def is_faulty_spot(triangle, k, m):

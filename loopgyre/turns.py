@@ -16,6 +16,10 @@ def is_level_round(table, i, j):
     return table[i + 1][j] == height and table[i][j - 1] == height and table[i][j + 1] == height
 
 
+def height_turned(table, i, j):
+    return 2 * table[i - 1][j] - table[i][j]
+
+
 def can_turn(state, i, j):
     need_square(state, i, j)
     return is_level_round(heights_of(state), i, j)
@@ -26,7 +30,7 @@ def turned(state, i, j):
     table = heights_of(state)
     if not is_level_round(table, i, j):
         raise NoTurn("the heights round this small square are not alike")
-    table[i][j] = 2 * table[i - 1][j] - table[i][j]
+    table[i][j] = height_turned(table, i, j)
     return signs_of_heights(table)
 
 

@@ -6,7 +6,7 @@ import itertools
 import random
 import unittest
 
-from loopgyre.errors import NoState, Unlike
+from loopgyre.errors import NoSize, NoState, Unlike
 
 SIZES = range(1, 13)
 
@@ -74,6 +74,43 @@ def walked_at(pair, r, c):
     return {"L": across[r][c], "R": across[r][c + 1], "U": down[r][c], "D": down[r + 1][c]}
 
 
+def small_squares(n):
+    return list(itertools.product(range(1, n), repeat=2))
+
+
+def round_point(heights, i, j):
+    return {heights[i - 1][j], heights[i + 1][j], heights[i][j - 1], heights[i][j + 1]}
+
+
+def turned_by_definition(heights, i, j):
+    """The heights behind the turn, None where it can't be turned."""
+    around = round_point(heights, i, j)
+    if len(around) != 1:
+        return None
+    level = around.pop()
+    told = [list(row) for row in heights]
+    told[i][j] = level - 1 if heights[i][j] == level + 1 else level + 1
+    return told
+
+
+def fewest_turns(start):
+    """From this state to each one, by trying all turns: how many are needed, by the state's heights."""
+    n = len(start)
+    first = heights_by_definition(start)
+    found = {repr(first): 0}
+    front = [first]
+    while front:
+        further = []
+        for heights in front:
+            for i, j in small_squares(n):
+                told = turned_by_definition(heights, i, j)
+                if told is not None and repr(told) not in found:
+                    found[repr(told)] = found[repr(heights)] + 1
+                    further.append(told)
+        front = further
+    return found
+
+
 def some_states(n):
     chance = random.Random(n)
     told = [diagonal(n), flipped(diagonal(n)), diamond(n), flipped(diamond(n))]
@@ -119,6 +156,25 @@ def spoil(thing):
         part.append("spoilt")
 
 
+def web_by_chance(n, chance):
+    """A web: links begun and ended by chance, each ending the one begun last."""
+    web, begun = [None] * (2 * n), []
+    for k in range(2 * n):
+        if begun and (len(begun) == 2 * n - k or chance.random() < 0.5):
+            other = begun.pop()
+            web[k], web[other] = other, k
+        else:
+            begun.append(k)
+    return web
+
+
+def some_webs(n):
+    chance = random.Random(n)
+    nested = list(range(2 * n))[::-1]
+    side_by_side = [k + 1 if k % 2 == 0 else k - 1 for k in range(2 * n)]
+    return [nested, side_by_side] + [web_by_chance(n, chance) for turn in range(20)]
+
+
 class AskCase(unittest.TestCase):
     """Asks what takes states and numbers, and looks at what becomes of them and of what is told."""
 
@@ -150,6 +206,12 @@ class AskCase(unittest.TestCase):
         for n, m in itertools.permutations(SIZES, 2):
             self.expect_refusal(Unlike, ask, diagonal(n), diagonal(m))
             self.expect_refusal(Unlike, ask, flipped(diagonal(n)), diamond(m))
+
+    def expect_no_size(self, ask, most):
+        """That what is no whole number from 1 to the most is refused."""
+        far = (-2, -most, most + 2, 2 * most, 100, 10 ** 9, 10 ** 29, -(10 ** 29), 10 ** 30 - 1)
+        for n in (0, -1, most + 1) + far + NO_NUMBERS:
+            self.expect_refusal(NoSize, ask, n)
 
     def expect_arguments(self, ask, told):
         self.assertEqual(str(inspect.signature(ask)), told)

@@ -7,7 +7,10 @@ import re
 import unittest
 
 PACKAGE = pathlib.Path(__file__).resolve().parent.parent / "loopgyre"
-MODULES = ("__init__", "errors", "floors", "signs", "heights", "arrows", "sides", "triangles", "turns", "lattice", "links")
+MODULES = (
+    "__init__", "errors", "floors", "signs", "heights", "arrows", "sides", "triangles", "turns", "lattice", "links",
+    "gyres", "webs", "books", "counts",
+)
 
 NODES = (
     "Module FunctionDef ClassDef arguments arg Return Assign AugAssign AnnAssign For While If Raise Try "

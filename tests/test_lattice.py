@@ -4,7 +4,7 @@ from loopgyre.errors import NoSize
 from loopgyre.lattice import greatest, join, least, lies_beneath, meet
 from loopgyre.signs import is_state
 from samples import (
-    NO_NUMBERS, SIZES, AskCase, all_states, diagonal, diamond, flipped, heights_by_definition, signs_between, some_states,
+    SIZES, AskCase, all_states, diagonal, diamond, flipped, heights_by_definition, signs_between, some_states,
 )
 
 
@@ -143,14 +143,8 @@ class LeastAndGreatest(AskCase):
                 self.assertEqual(join(state, greatest(n)), greatest(n))
 
     def test_no_size(self):
-        for n in (0, -1, -2, -12, 13, 14, 24, 100, 10 ** 9, 10 ** 29, -(10 ** 29), 10 ** 30 - 1):
-            self.expect_refusal(NoSize, least, n)
-            self.expect_refusal(NoSize, greatest, n)
-
-    def test_other_things_are_no_size(self):
-        for thing in NO_NUMBERS:
-            self.expect_refusal(NoSize, least, thing)
-            self.expect_refusal(NoSize, greatest, thing)
+        self.expect_no_size(least, 12)
+        self.expect_no_size(greatest, 12)
 
 
 class Keeping(AskCase):

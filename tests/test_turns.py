@@ -5,30 +5,11 @@ from loopgyre.errors import NoSquare, NoTurn
 from loopgyre.signs import is_state
 from loopgyre.turns import apart, can_turn, turned, turns_between
 from samples import (
-    SIZES, AskCase, all_states, diagonal, diamond, flipped, heights_by_definition, sides_by_definition, signs_between,
-    some_states,
+    SIZES, AskCase, all_states, diagonal, diamond, fewest_turns, flipped, heights_by_definition, sides_by_definition,
+    signs_between, small_squares, some_states, turned_by_definition,
 )
 
 HUGE = 10 ** 29
-
-
-def small_squares(n):
-    return list(itertools.product(range(1, n), repeat=2))
-
-
-def round_point(heights, i, j):
-    return {heights[i - 1][j], heights[i + 1][j], heights[i][j - 1], heights[i][j + 1]}
-
-
-def turned_by_definition(heights, i, j):
-    """The heights behind the turn, None where it can't be turned."""
-    around = round_point(heights, i, j)
-    if len(around) != 1:
-        return None
-    level = around.pop()
-    told = [list(row) for row in heights]
-    told[i][j] = level - 1 if heights[i][j] == level + 1 else level + 1
-    return told
 
 
 def four_sides(pair, i, j):
@@ -56,23 +37,6 @@ def apart_by_definition(one, other):
     total = sum(abs(height - beside) for height, beside in pairs)
     assert total % 2 == 0
     return total // 2
-
-
-def fewest_turns(start, n):
-    """From this state to each one, by trying all turns: how many are needed, by the state's heights."""
-    first = heights_by_definition(start)
-    found = {repr(first): 0}
-    front = [first]
-    while front:
-        further = []
-        for heights in front:
-            for i, j in small_squares(n):
-                told = turned_by_definition(heights, i, j)
-                if told is not None and repr(told) not in found:
-                    found[repr(told)] = found[repr(heights)] + 1
-                    further.append(told)
-        front = further
-    return found
 
 
 class Turns(AskCase):
@@ -212,7 +176,7 @@ class Between(AskCase):
         for n in range(1, 5):
             states = all_states(n)
             for one in states:
-                found = fewest_turns(one, n)
+                found = fewest_turns(one)
                 self.assertEqual(len(found), len(states))
                 for other in states:
                     self.assertEqual(found[repr(heights_by_definition(other))], apart(one, other))
